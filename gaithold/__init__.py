@@ -1,0 +1,1 @@
+"""Gaithold: systems of recurring events and their exact asymptotic rates."""

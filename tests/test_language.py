@@ -1,0 +1,97 @@
+"""The rules of the language subset that can be seen in the code of one file."""
+
+import ast
+import re
+import unittest
+from pathlib import Path
+
+PACKAGE = Path(__file__).resolve().parent.parent / "gaithold"
+FILES = sorted(PACKAGE.glob("*.py"))
+BUILTINS = set(
+    "len range enumerate zip min max sum abs sorted reversed int str bool bytes list tuple dict set frozenset"
+    " isinstance ord repr any all divmod iter next super Exception ValueError TypeError KeyError IndexError"
+    " LookupError ZeroDivisionError ArithmeticError OverflowError RuntimeError NotImplementedError"
+    " AttributeError StopIteration NotImplemented property staticmethod classmethod".split())
+BARRED_WORDS = re.compile(
+    r"\b(type|typing|typing_extensions|enum|Enum|IntEnum|StrEnum|Flag|IntFlag|Generic|Protocol|ABC|ABCMeta"
+    r"|namedtuple|NamedTuple|TypedDict|TYPE_CHECKING|abstractmethod)\b|dataclass|overload|contextmanager")
+BARRED_NODES = (
+    ast.Import, ast.Global, ast.AsyncFunctionDef, ast.AsyncFor, ast.AsyncWith, ast.Await, ast.Div, ast.MatMult,
+    ast.TryStar)
+
+
+def nodes(kinds):
+    for path in FILES:
+        for node in ast.walk(ast.parse(path.read_text())):
+            if isinstance(node, kinds):
+                yield path.name, node
+
+
+class LanguageTest(unittest.TestCase):
+    def test_files(self):
+        others = {path.name for path in PACKAGE.iterdir()} - {path.name for path in FILES} - {"__pycache__"}
+        self.assertEqual(others, set())
+        self.assertIn("__init__.py", {path.name for path in FILES})
+        for path in FILES:
+            self.assertRegex(path.stem, "^(__init__|[a-z][a-z0-9_]*)$")
+
+    def test_characters_and_lines(self):
+        for path in FILES:
+            text = path.read_text()
+            self.assertRegex(text, r"\A[ -~\n]*\Z", path.name)
+            lines = text.splitlines()
+            self.assertLessEqual(len(lines), 400, path.name)
+            self.assertLessEqual(max(map(len, lines)), 120, path.name)
+            self.assertIsNone(BARRED_WORDS.search(text), path.name)
+
+    def test_functions_are_short(self):
+        for name, node in nodes((ast.FunctionDef,)):
+            self.assertLessEqual(node.end_lineno - node.lineno + 1, 40, (name, node.name))
+
+    def test_imports(self):
+        seen = {}
+        for name, node in nodes((ast.ImportFrom,)):
+            self.assertEqual(node.level, 0, name)
+            self.assertRegex(node.module, r"^gaithold\.[a-z]+$", name)
+            self.assertTrue(all(alias.name != "*" for alias in node.names), name)
+            seen.setdefault(name, set()).add(node.module.partition(".")[2] + ".py")
+        self.assertEqual(seen.get("errors.py"), None)
+        while seen:
+            # Files that import nothing unplaced go first; a circle leaves none of them.
+            placed = [name for name in seen if not seen[name] & set(seen)]
+            self.assertNotEqual(placed, [])
+            seen = {name: seen[name] for name in seen if name not in placed}
+
+    def test_statements_and_signs(self):
+        self.assertEqual([(name, ast.dump(node)) for name, node in nodes(BARRED_NODES)], [])
+
+    def test_literals(self):
+        for name, node in nodes((ast.Constant,)):
+            self.assertNotIsInstance(node.value, (float, complex), (name, node.lineno))
+            if isinstance(node.value, str):
+                self.assertNotIn("%", node.value, (name, node.lineno))
+
+    def test_names(self):
+        for name, node in nodes((ast.Name, ast.arg, ast.Attribute, ast.ClassDef, ast.FunctionDef)):
+            word = getattr(node, "id", None) or getattr(node, "arg", None) or getattr(node, "attr", None) or node.name
+            if re.fullmatch("__(init|eq|repr|str|len)__", word) is None:
+                self.assertRegex(word, "^[A-Za-z]", (name, node.lineno))
+
+    def test_only_allowed_builtins(self):
+        known = set(dir(__import__("builtins")))
+        for name, node in nodes((ast.Name,)):
+            if node.id in known:
+                self.assertIn(node.id, BUILTINS, (name, node.lineno))
+                self.assertIsInstance(node.ctx, ast.Load, (name, node.lineno))
+        for name, node in nodes((ast.arg,)):
+            self.assertNotIn(node.arg, known, (name, node.lineno))
+
+    def test_identity_only_with_constants(self):
+        for name, node in nodes((ast.Compare,)):
+            for sign, right in zip(node.ops, node.comparators):
+                if isinstance(sign, (ast.Is, ast.IsNot)):
+                    self.assertIsInstance(right, ast.Constant, (name, node.lineno))
+
+
+if __name__ == "__main__":
+    unittest.main()
