@@ -13,6 +13,19 @@ def greatest_divisor(one, other):
     return abs(one)
 
 
+def least_multiple(one, other):
+    """Return the least common multiple of two positive integers."""
+    return one // greatest_divisor(one, other) * other
+
+
+def common_denominator(row):
+    """Return the least positive integer that turns all fractions of a list into integers."""
+    result = 1
+    for num, den in row:
+        result = least_multiple(result, den)
+    return result
+
+
 def fraction(num, den=1):
     """Return num / den in lowest terms with a positive denominator."""
     if den == 0:

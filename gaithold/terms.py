@@ -140,9 +140,14 @@ def value_of(term, table):
     return total([multiply(pair[0], value) for pair, value in zip(term[1:], values)])
 
 
+def check_names(term, known):
+    """Raise UnknownEvent with the first name in a term that a dict or a list does not contain."""
+    for name in event_names(term):
+        if name not in known:
+            raise UnknownEvent(name)
+
+
 def evaluate(term, table):
     """Return the value of a term under a dict from names to times."""
-    for name in event_names(term):
-        if name not in table:
-            raise UnknownEvent(name)
+    check_names(term, table)
     return value_of(term, table)

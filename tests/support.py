@@ -50,9 +50,65 @@ class Source:
             return (kind, self.term(depth - 1), self.short_pair())
         many = 3 if kind == "median" else self.random.randint(1, 3)
         parts = [self.term(depth - 1) for _ in range(many)]
+        return self.join(kind, parts)
+
+    def join(self, kind, parts):
+        if kind == "delay":
+            return (kind, parts[0], self.random.choice((self.short_pair(), self.term_pair())))
         if kind == "mix":
-            return (kind, *zip(self.weights(many), parts))
+            return (kind, *zip(self.weights(len(parts)), parts))
         return (kind, *parts)
+
+    def term_pair(self):
+        """A fraction with up to 12 digits on each side."""
+        top = 10 ** 12 - 1
+        return pair_of(Fraction(self.random.randint(-top, top), self.random.randint(1, top)))
+
+    def sized_term(self, size, depth=10):
+        """A term of exactly this size and at most this depth, with up to six operands."""
+        if size == 1:
+            return ("event", self.random.choice(NAMES))
+        capacity = sum(6 ** level for level in range(depth - 1))
+        counts = [many for many in range(1, 7) if many < size <= 1 + many * capacity]
+        many = self.random.choice(counts)
+        kinds = ["max", "min", "mix"] + ["delay"] * (many == 1) * 3 + ["median"] * (many == 3)
+        parts, left = [], size - 1
+        for slots in range(many - 1, -1, -1):
+            share = self.random.randint(max(1, left - slots * capacity), min(capacity, left - slots))
+            left -= share
+            parts.append(self.sized_term(share, depth - 1))
+        return self.join(self.random.choice(kinds), parts)
+
+    def rows(self, many, depth):
+        """Rows of a system with this many events."""
+        names = NAMES[:many]
+        return [(name, rename(self.term(depth), names)) for name in names]
+
+
+def rename(term, names):
+    """The term with every event reference turned into one of these names."""
+    if term[0] == "event":
+        return ("event", names[NAMES.index(term[1]) % len(names)])
+    if term[0] == "delay":
+        return ("delay", rename(term[1], names), term[2])
+    if term[0] == "mix":
+        return ("mix", *[(weight, rename(part, names)) for weight, part in term[1:]])
+    return (term[0], *[rename(part, names) for part in term[1:]])
+
+
+def plain_text(term):
+    """The text of a term by Python's own fractions, independent of the package."""
+    kind = term[0]
+    if kind == "event":
+        return term[1]
+    if kind == "delay":
+        amount = as_fraction(term[2])
+        return f"{plain_text(term[1])} {'-' if amount < 0 else '+'} {abs(amount)}"
+    if kind == "mix":
+        parts = [f"{as_fraction(weight)} {plain_text(part)}" for weight, part in term[1:]]
+    else:
+        parts = [plain_text(part) for part in term[1:]]
+    return f"{kind}({', '.join(parts)})"
 
 
 def plain_value(term, table):

@@ -27,6 +27,15 @@ def nodes(kinds):
                 yield path.name, node
 
 
+def bound_names(node):
+    """The names that a statement at module level binds."""
+    if isinstance(node, ast.ImportFrom):
+        return [alias.asname or alias.name for alias in node.names]
+    if isinstance(node, ast.Assign):
+        return [part.id for target in node.targets for part in ast.walk(target) if isinstance(part, ast.Name)]
+    return [node.name]
+
+
 class LanguageTest(unittest.TestCase):
     def test_files(self):
         others = {path.name for path in PACKAGE.iterdir()} - {path.name for path in FILES} - {"__pycache__"}
@@ -85,6 +94,51 @@ class LanguageTest(unittest.TestCase):
                 self.assertIsInstance(node.ctx, ast.Load, (name, node.lineno))
         for name, node in nodes((ast.arg,)):
             self.assertNotIn(node.arg, known, (name, node.lineno))
+
+    def test_module_level(self):
+        kinds = (ast.ImportFrom, ast.FunctionDef, ast.ClassDef, ast.Assign)
+        for path in FILES:
+            tree = ast.parse(path.read_text())
+            self.assertIsNotNone(ast.get_docstring(tree), path.name)
+            names = []
+            for node in tree.body[1:]:
+                self.assertIsInstance(node, kinds, (path.name, node.lineno))
+                names.extend(bound_names(node))
+            self.assertEqual(sorted(names), sorted(set(names)), path.name)
+
+    def test_no_local_name_hides_an_import_or_a_class(self):
+        for path in FILES:
+            tree = ast.parse(path.read_text())
+            taken = [name for node in tree.body if isinstance(node, (ast.ImportFrom, ast.ClassDef)) for name in bound_names(node)]
+            for node in ast.walk(tree):
+                if isinstance(node, ast.arg):
+                    self.assertNotIn(node.arg, taken, (path.name, node.lineno))
+                if isinstance(node, ast.Name) and isinstance(node.ctx, ast.Store):
+                    self.assertNotIn(node.id, taken, (path.name, node.lineno))
+
+    def test_methods_and_attributes_have_different_names(self):
+        methods = {part.name for _, node in nodes(ast.ClassDef) for part in node.body if isinstance(part, ast.FunctionDef)}
+        attributes = {node.attr for _, node in nodes(ast.Attribute) if isinstance(node.ctx, ast.Store)}
+        self.assertEqual(methods & attributes, set())
+        for name in attributes:
+            self.assertFalse(any(hasattr(kind, name) for kind in (int, str, bytes, list, tuple, dict, set)), name)
+
+    def test_lists_instead_of_generators_and_sets(self):
+        # Narrower than the rules, which allow some of these where no class has __eq__.
+        kinds = (ast.GeneratorExp, ast.Set, ast.SetComp, ast.Yield, ast.YieldFrom)
+        self.assertEqual([(name, node.lineno) for name, node in nodes(kinds)], [])
+
+    def test_keywords_of_builtins(self):
+        allowed = {("max", "default"), ("min", "default"), ("max", "key"), ("min", "key"), ("sorted", "key")}
+        for name, node in nodes(ast.Call):
+            if isinstance(node.func, ast.Name) and node.func.id in BUILTINS:
+                for keyword in node.keywords:
+                    self.assertIn((node.func.id, keyword.arg), allowed, (name, node.lineno))
+
+    def test_double_underscore_methods(self):
+        for name, node in nodes(ast.FunctionDef):
+            if node.name in ("__eq__", "__len__", "__str__", "__repr__"):
+                self.assertEqual([type(part) for part in node.body], [ast.Return], (name, node.lineno))
 
     def test_identity_only_with_constants(self):
         for name, node in nodes((ast.Compare,)):

@@ -5,8 +5,8 @@ from support import Source, as_fraction, is_canonical, pair_of
 
 from gaithold.errors import ParseError, ZeroDenominator
 from gaithold.rationals import (
-    ZERO, add, ceiling, divide, format_fraction, fraction, index_of_max, index_of_min, is_less, multiply,
-    parse_fraction, subtract, total,
+    ZERO, add, ceiling, common_denominator, divide, format_fraction, fraction, index_of_max, index_of_min, is_less,
+    least_multiple, multiply, parse_fraction, subtract, total,
 )
 
 
@@ -134,6 +134,17 @@ class RowTest(unittest.TestCase):
                     self.assertEqual(index_of_max(given), values.index(max(values)))
                     self.assertEqual(index_of_min(given), values.index(min(values)))
             self.assertEqual(row, kept)
+
+
+class MultipleTest(unittest.TestCase):
+    def test_least_multiple(self):
+        for one, other, wanted in ((1, 1, 1), (4, 6, 12), (6, 4, 12), (3, 9, 9), (5, 7, 35), (10 ** 40, 10 ** 39, 10 ** 40)):
+            self.assertEqual(least_multiple(one, other), wanted)
+
+    def test_common_denominator(self):
+        self.assertEqual(common_denominator([]), 1)
+        self.assertEqual(common_denominator([(0, 1), (5, 1)]), 1)
+        self.assertEqual(common_denominator(((1, 4), (-5, 6), (2, 3))), 12)
 
 
 class CeilingTest(unittest.TestCase):
