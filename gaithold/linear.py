@@ -61,9 +61,9 @@ def eliminate(rows, width):
     return columns, done, rest
 
 
-def solution_of(equations, width):
-    """Return a solution of equations (coefficients and the target as last element), or None if there is none."""
-    columns, done, rest = eliminate([as_integers(equation) for equation in equations], width)
+def solution_of(rows, width):
+    """Return a solution of rows of integers (coefficients and then the target), or None if there is none."""
+    columns, done, rest = eliminate(rows, width)
     if any([row[-1] != 0 for row in rest]):
         return None
     # Unknowns without a pivot are free.
@@ -77,12 +77,12 @@ def solve_linear(rows, targets):
     """Return ('solution', list) or ('certificate', list)."""
     check_shape(rows, targets)
     columns = columns_of(rows)
-    values = solution_of([[*row, target] for row, target in zip(rows, targets)], len(columns))
+    values = solution_of([as_integers([*row, target]) for row, target in zip(rows, targets)], len(columns))
     if values is not None:
         return ("solution", values)
     # Equations without a solution always have weights under which the rows cancel and the targets sum to 1.
-    cancelled = [[*column, ZERO] for column in columns]
-    return ("certificate", solution_of([*cancelled, [*targets, (1, 1)]], len(rows)))
+    cancelled = [as_integers([*column, ZERO]) for column in columns]
+    return ("certificate", solution_of([*cancelled, as_integers([*targets, (1, 1)])], len(rows)))
 
 
 def cancels(row, factors):

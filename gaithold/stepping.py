@@ -5,13 +5,7 @@ round to round.
 """
 
 from gaithold.rationals import common_denominator, fraction, greatest_divisor, least_multiple
-from gaithold.terms import subterms
-
-
-def delays_in(term):
-    """Return the amounts of all delays in a term."""
-    amounts = [amount for part in subterms(term) for amount in delays_in(part)]
-    return [term[2], *amounts] if term[0] == "delay" else amounts
+from gaithold.terms import delays_in, subterms
 
 
 def weight_scale(term):

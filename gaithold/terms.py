@@ -77,6 +77,18 @@ def subterms(term):
     return list(term[1:])
 
 
+def with_subterms(term, parts):
+    """Return the term with other direct subterms."""
+    kind = term[0]
+    if kind == "event":
+        return term
+    if kind == "delay":
+        return ("delay", parts[0], term[2])
+    if kind == "mix":
+        parts = [(pair[0], part) for pair, part in zip(term[1:], parts)]
+    return (kind, *parts)
+
+
 def is_valid_term(thing):
     """Return whether a value is a term."""
     # Level by level: the limits end the search before a wide tuple is walked whole.
@@ -104,6 +116,11 @@ def term_depth(term):
     return 1 + max([term_depth(part) for part in subterms(term)], default=0)
 
 
+def is_small(term):
+    """Return whether a term keeps the limits of size and depth."""
+    return term_size(term) <= MAX_SIZE and term_depth(term) <= MAX_DEPTH
+
+
 def event_names(term):
     """Return the names in a term in order of first occurrence, without duplicates."""
     if term[0] == "event":
@@ -114,6 +131,20 @@ def event_names(term):
             if name not in names:
                 names.append(name)
     return names
+
+
+def delays_in(term):
+    """Return the amounts of all delays in a term."""
+    amounts = [amount for part in subterms(term) for amount in delays_in(part)]
+    return [term[2], *amounts] if term[0] == "delay" else amounts
+
+
+def scale_delays(term, factor):
+    """Return the term with all delays multiplied by a fraction."""
+    parts = [scale_delays(part, factor) for part in subterms(term)]
+    if term[0] == "delay":
+        return ("delay", parts[0], multiply(factor, term[2]))
+    return with_subterms(term, parts)
 
 
 def median_of(values):

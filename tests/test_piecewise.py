@@ -3,7 +3,7 @@ import itertools
 import unittest
 from fractions import Fraction
 
-from support import NAMES, Source, as_fraction, is_canonical, pair_of
+from support import NAMES, Source, as_fraction, crossings, is_canonical, pair_of, selectable_lines
 
 from gaithold.errors import UnknownEvent
 from gaithold.piecewise import trace
@@ -27,24 +27,6 @@ def value_of_input(table, instant):
 def value_of_pieces(pieces, instant):
     active = [piece for piece in pieces if as_fraction(piece[0]) <= instant][-1]
     return as_fraction(active[1]) + instant * as_fraction(active[2])
-
-
-def selectable_lines(term, table):
-    """Every line that some selection of operands gives, as pairs of Python's own fractions."""
-    if term[0] == 'event':
-        return {tuple(as_fraction(one) for one in table[term[1]])}
-    if term[0] == 'delay':
-        return {(offset + as_fraction(term[2]), rate) for offset, rate in selectable_lines(term[1], table)}
-    if term[0] != 'mix':
-        return set().union(*[selectable_lines(part, table) for part in term[1:]])
-    weights = [as_fraction(weight) for weight, _ in term[1:]]
-    choices = itertools.product(*[selectable_lines(part, table) for _, part in term[1:]])
-    return {tuple(sum(w * line[at] for w, line in zip(weights, lines)) for at in range(2)) for lines in choices}
-
-
-def crossings(lines, since):
-    found = {(other[0] - one[0]) / (one[1] - other[1]) for one, other in itertools.permutations(lines, 2) if one[1] != other[1]}
-    return sorted(instant for instant in found if instant >= since)
 
 
 class TraceTest(unittest.TestCase):

@@ -1,13 +1,13 @@
 import copy
 import unittest
 
-from support import NAMES, Source, as_fraction, is_canonical, pair_of, plain_text, plain_value
+from samples import random_systems
+from support import NAMES, as_fraction, is_canonical, pair_of, plain_rounds, plain_text
 
 from gaithold.errors import (
     DuplicateName, InvalidCount, InvalidName, InvalidRound, InvalidTerm, InvalidTimes, UnknownEvent,
 )
 from gaithold.systems import MAX_EVENTS, MAX_ROUNDS, EventSystem
-from gaithold.terms import is_valid_term
 
 A = ('event', 'a')
 B = ('event', 'b')
@@ -17,22 +17,6 @@ ROWS = (
     ('b', ('delay', A, (1, 2))),
 )
 BAD = ('max',)
-
-
-def plain_rounds(rows, times, rounds):
-    """The times after some rounds by Python's own fractions, independent of the package."""
-    for _ in range(rounds):
-        table = dict(zip([name for name, _ in rows], times))
-        times = [pair_of(plain_value(term, table)) for _, term in rows]
-    return list(times)
-
-
-def random_systems(seed, many):
-    source = Source(seed)
-    for at in range(many):
-        rows = source.rows(1 + at % 6, 4)
-        if all(is_valid_term(term) for _, term in rows):
-            yield source, EventSystem(rows)
 
 
 class SystemTest(unittest.TestCase):

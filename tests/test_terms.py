@@ -3,7 +3,7 @@ import itertools
 import unittest
 from fractions import Fraction
 
-from support import NAMES, Source, as_fraction, is_canonical, pair_of, plain_value
+from support import NAMES, Source, as_fraction, chain, is_canonical, pair_of, plain_value, wide
 
 from gaithold.errors import UnknownEvent
 from gaithold.terms import (
@@ -12,24 +12,6 @@ from gaithold.terms import (
 
 A = ('event', 'a')
 B = ('event', 'b')
-
-
-def chain(depth):
-    """A term of this depth and size."""
-    term = A
-    for _ in range(depth - 1):
-        term = ('delay', term, (1, 1))
-    return term
-
-
-def wide(size):
-    """A term of this size, from 13 to 43, that is 3 deep."""
-    parts, left = [], size - 1
-    for slots in range(6, 0, -1):
-        share = left // slots
-        left -= share
-        parts.append(('max', *[A] * (share - 1)))
-    return ('min', *parts)
 
 
 class NameTest(unittest.TestCase):
