@@ -56,6 +56,11 @@ def divide(one, other):
     return fraction(one[0] * other[1], one[1] * other[0])
 
 
+def magnitude(one):
+    """Return the absolute value of a fraction."""
+    return (abs(one[0]), one[1])
+
+
 def is_less(one, other):
     """Return whether the first fraction is less than the second one."""
     return one[0] * other[1] < other[0] * one[1]

@@ -3,7 +3,7 @@
 from gaithold.errors import InvalidRound, InvalidTimes
 from gaithold.piecewise import trace
 from gaithold.rationals import (
-    ZERO, add, ceiling, common_denominator, index_of_max, is_less, least_multiple, multiply, subtract,
+    ZERO, add, ceiling, common_denominator, index_of_max, is_less, least_multiple, magnitude, multiply, subtract,
 )
 from gaithold.stepping import weight_scale
 from gaithold.strategies import approach
@@ -71,11 +71,6 @@ def is_regime(system, times, rates, since):
         raise InvalidRound(since)
     rows = traced_rows(system, times, rates, since)
     return all([pieces == [((since, 1), *wanted)] for pieces, wanted in rows])
-
-
-def magnitude(one):
-    """Return the absolute value of a fraction."""
-    return (abs(one[0]), one[1])
 
 
 def distance(one, other):
