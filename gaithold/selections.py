@@ -19,7 +19,8 @@ def select_operand(kind, values, parts, side):
         # The median is the min of the two above the least operand, and the max of the two below the greatest one.
         lower = side == "max"
         dropped = ranks[0] if lower else ranks[2]
-        return values[ranks[1]], ("min" if lower else "max", *parts[:dropped], *parts[dropped + 1:])
+        rest = parts[:dropped] + parts[dropped + 1:]
+        return values[ranks[1]], ("min" if lower else "max", *rest)
     best = ranks[-1] if kind == "max" else ranks[0]
     return values[best], parts[best] if kind == side else (kind, *parts)
 

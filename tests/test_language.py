@@ -71,6 +71,19 @@ class LanguageTest(unittest.TestCase):
             self.assertNotEqual(placed, [])
             seen = {name: seen[name] for name in seen if name not in placed}
 
+    def test_imports_name_the_file_that_defines(self):
+        defined = {}
+        for path in FILES:
+            body = [node for node in ast.parse(path.read_text()).body[1:] if not isinstance(node, ast.ImportFrom)]
+            defined["gaithold." + path.stem] = {name for node in body for name in bound_names(node)}
+        for name, node in nodes((ast.ImportFrom,)):
+            self.assertLessEqual({alias.name for alias in node.names}, defined[node.module], (name, node.lineno))
+
+    def test_stars_stand_before_names(self):
+        # Narrower than the rules, which allow more in list and tuple literals.
+        for name, node in nodes((ast.Starred,)):
+            self.assertIsInstance(node.value, ast.Name, (name, node.lineno))
+
     def test_statements_and_signs(self):
         self.assertEqual([(name, ast.dump(node)) for name, node in nodes(BARRED_NODES)], [])
 
@@ -120,7 +133,8 @@ class LanguageTest(unittest.TestCase):
         methods = {part.name for _, node in nodes(ast.ClassDef) for part in node.body if isinstance(part, ast.FunctionDef)}
         attributes = {node.attr for _, node in nodes(ast.Attribute) if isinstance(node.ctx, ast.Store)}
         self.assertEqual(methods & attributes, set())
-        for name in attributes:
+        plain_methods = {name for name in methods if not name.startswith("__")}
+        for name in attributes | plain_methods:
             self.assertFalse(any(hasattr(kind, name) for kind in (int, str, bytes, list, tuple, dict, set)), name)
 
     def test_lists_instead_of_generators_and_sets(self):
